@@ -1,0 +1,1 @@
+"""Boardsight: flat boards in space, and which hides which."""

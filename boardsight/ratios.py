@@ -1,0 +1,41 @@
+"""Fractions: tuples (top, bottom) in lowest terms, bottom from 1 on."""
+
+from boardsight.errors import NoNumber
+from boardsight.wholes import in_lowest_terms
+
+
+def fraction(top, bottom=1):
+    if bottom == 0:
+        raise NoNumber("a fraction has no bottom of nought")
+    if bottom < 0:
+        return in_lowest_terms((-top, -bottom))
+    return in_lowest_terms((top, bottom))
+
+
+def plus(one, other):
+    return fraction(one[0] * other[1] + other[0] * one[1], one[1] * other[1])
+
+
+def minus(one, other):
+    return fraction(one[0] * other[1] - other[0] * one[1], one[1] * other[1])
+
+
+def times(one, other):
+    return fraction(one[0] * other[0], one[1] * other[1])
+
+
+def over(one, other):
+    if other[0] == 0:
+        raise NoNumber("nothing is parted by nought")
+    return fraction(one[0] * other[1], one[1] * other[0])
+
+
+def under(one, other):
+    return one[0] * other[1] < other[0] * one[1]
+
+
+def total_of(some):
+    total = (0, 1)
+    for one in some:
+        total = plus(total, one)
+    return total

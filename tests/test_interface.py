@@ -1,0 +1,34 @@
+"""The names and arguments of the interface are there as the document tells them."""
+
+import importlib
+import inspect
+import unittest
+
+INTERFACE = {
+    "ratios": [
+        "fraction(top, bottom=1)", "plus(one, other)", "minus(one, other)", "times(one, other)", "over(one, other)",
+        "under(one, other)", "total_of(some)",
+    ],
+    "spots": [
+        "made_spot(x, y, z, w=1)", "stands_first(one, other)", "shared_spot(one, other, t)",
+        "in_line(one, other, third)", "strictly_between(near, one, far)",
+    ],
+    "planes": [
+        "made_plane(a, b, c, d)", "plane_through(one, other, third)", "turned_about(plane)", "side_of(plane, spot)",
+        "met_at(plane, one, other)",
+    ],
+}
+
+
+class InterfaceTest(unittest.TestCase):
+    def test_names_and_arguments(self):
+        for module, wanted in INTERFACE.items():
+            home = importlib.import_module("boardsight." + module)
+            for row in wanted:
+                name = row.partition("(")[0]
+                self.assertEqual(name + str(inspect.signature(getattr(home, name))), row)
+                self.assertEqual(getattr(home, name).__module__, "boardsight." + module)
+
+
+if __name__ == "__main__":
+    unittest.main()
