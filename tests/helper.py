@@ -1,8 +1,9 @@
-"""What several test files need: numbers of many figures, refusals."""
+"""What several test files need: numbers of many figures, boards drawn by a seeded draw, refusals."""
 
 from fractions import Fraction
 
-from boardsight.errors import SightError
+from boardsight.boards import made_board
+from boardsight.errors import NoBoard, SightError
 from boardsight.spots import made_spot
 
 # Two thousand figures each: the most that is handed in.
@@ -18,9 +19,32 @@ def numbers_of(spot):
     return tuple(Fraction(number, spot[3]) for number in spot[:3])
 
 
+def flat(pairs, z=0, w=1):
+    return [made_spot(x, y, z, w) for x, y in pairs]
+
+
+def flat_board(pairs, z=0, w=1):
+    return made_board(flat(pairs, z, w))
+
+
 def drawn_spot(draw, reach=9, most_w=3):
     numbers = [draw.randint(-reach, reach) for _ in range(3)]
     return made_spot(numbers[0], numbers[1], numbers[2], draw.randint(1, most_w))
+
+
+def drawn_board(draw, reach=6, most_w=3, most_corners=5):
+    while True:
+        start, across, up = [[draw.randint(-reach, reach) for _ in range(3)] for _ in range(3)]
+        w = draw.randint(1, most_w)
+        corners = []
+        for _ in range(draw.randint(3, most_corners)):
+            u, v = draw.randint(-3, 3), draw.randint(-3, 3)
+            x, y, z = [start[k] + u * across[k] + v * up[k] for k in range(3)]
+            corners.append(made_spot(x, y, z, w))
+        try:
+            return made_board(corners)
+        except NoBoard:
+            continue
 
 
 def refusal_of(deed, *given):

@@ -17,6 +17,10 @@ INTERFACE = {
         "made_plane(a, b, c, d)", "plane_through(one, other, third)", "turned_about(plane)", "side_of(plane, spot)",
         "met_at(plane, one, other)",
     ],
+    "boards": ["made_board(corners)", "plane_of(board)", "size_of(board)", "where_in(board, spot)", "middle(board)"],
+    "cuts": ["cut_by(board, plane)", "kept_by(board, planes)", "common_part(one, other)", "does_fill(board, parts)"],
+    "sights": ["is_free(boards, spot)", "does_hide(one, other, spot)", "sight_of(one, other, spot)"],
+    "sightjudge": ["is_parting(plane, one, other, spot)", "sight_judged(one, other, spot, told)"],
 }
 
 
