@@ -62,11 +62,16 @@ def parting_plane(one, other, spot, faces):
     return plane_along_edges(one, other, spot)
 
 
+def sight_through(shown, other, spot):
+    near = spot_within(shown)
+    return (near, met_at(plane_of(other), spot, near))
+
+
 def sight_of(one, other, spot):
     refuse_unless_free([one, other], spot)
     faces = pyramid_faces(other, spot)
     shown = kept_by(one, faces)
     if shown is None:
         return ("parted", parting_plane(one, other, spot, faces))
-    near = spot_within(shown)
-    return ("hides", near, met_at(plane_of(other), spot, near))
+    sight = sight_through(shown, other, spot)
+    return ("hides", sight[0], sight[1])

@@ -1,9 +1,11 @@
-"""What several test files need: numbers of many figures, boards drawn by a seeded draw, refusals."""
+"""What several test files need: numbers of many figures, boards drawn by a seeded draw, scenes, refusals."""
 
+from copy import deepcopy
 from fractions import Fraction
 
 from boardsight.boards import made_board
 from boardsight.errors import NoBoard, SightError
+from boardsight.sights import does_hide, is_free
 from boardsight.spots import made_spot
 
 # Two thousand figures each: the most that is handed in.
@@ -45,6 +47,71 @@ def drawn_board(draw, reach=6, most_w=3, most_corners=5):
             return made_board(corners)
         except NoBoard:
             continue
+
+
+def drawn_scene(draw, many, reach=6, spot_reach=9):
+    while True:
+        boards = [drawn_board(draw, draw.choice([1, 2, reach])) for _ in range(many)]
+        spot = drawn_spot(draw, spot_reach)
+        if is_free(boards, spot):
+            return boards, spot
+
+
+def sheet(left, right, low, high, z):
+    return flat_board([(left, low), (right, low), (right, high), (left, high)], z)
+
+
+def plank(start, goal, low, high):
+    """From start to goal and a bit beyond both, slanting up from low to high."""
+    dx, dy = goal[0] - start[0], goal[1] - start[1]
+    ends = [(start[0] * 8 - dx, start[1] * 8 - dy, low * 8), (goal[0] * 8 + dx, goal[1] * 8 + dy, high * 8)]
+    (x, y, z), (far_x, far_y, far_z) = ends
+    return made_board([
+        made_spot(x + dy, y - dx, z, 8), made_spot(x - dy, y + dx, z, 8),
+        made_spot(far_x - dy, far_y + dx, far_z, 8), made_spot(far_x + dy, far_y - dx, far_z, 8),
+    ])
+
+
+def wheel(points):
+    """A plank along each side: seen from high up each one hides the next, and the last one the first."""
+    return [plank(point, points[(k + 1) % len(points)], 0, 8) for k, point in enumerate(points)]
+
+
+# From (0, 0, 0, 1) each one of these hides the other.
+CROSS = [
+    made_board([(-2, -2, 8, 1), (-2, 2, 8, 1), (2, 2, 12, 1), (2, -2, 12, 1)]),
+    made_board([(-2, -2, 12, 1), (-2, 2, 12, 1), (2, 2, 8, 1), (2, -2, 8, 1)]),
+]
+
+HIGH_UP = (3, 2, 200, 1)
+THREE_RING = wheel([(0, 0), (16, 0), (0, 16)])
+FOUR_RING = wheel([(-16, -16), (16, -16), (16, 16), (-16, 16)])
+
+
+def hides_later(boards, row, spot):
+    """Whether in this row some board hides one that stands behind it."""
+    return any(does_hide(boards[i], boards[j], spot) for k, i in enumerate(row) for j in row[k + 1:])
+
+
+def spoiled(value):
+    """Empties all lists within, so that a list that is kept elsewhere would show it."""
+    if isinstance(value, (list, tuple)):
+        for part in value:
+            spoiled(part)
+    if isinstance(value, list):
+        value.clear()
+
+
+def told_twice(test, deed, *given):
+    """What is told, with the checks that all answers owe: alike again, lists of their own, nothing changed."""
+    before = deepcopy(given)
+    told = deed(*given)
+    test.assertEqual(given, before)
+    wanted = deepcopy(told)
+    spoiled(told)
+    test.assertEqual(given, before)
+    test.assertEqual(deed(*given), wanted)
+    return wanted
 
 
 def refusal_of(deed, *given):

@@ -21,6 +21,13 @@ INTERFACE = {
     "cuts": ["cut_by(board, plane)", "kept_by(board, planes)", "common_part(one, other)", "does_fill(board, parts)"],
     "sights": ["is_free(boards, spot)", "does_hide(one, other, spot)", "sight_of(one, other, spot)"],
     "sightjudge": ["is_parting(plane, one, other, spot)", "sight_judged(one, other, spot, told)"],
+    "orders": ["hiding_pairs(boards, spot)", "order_from(boards, spot)", "order_judged(boards, spot, told)"],
+    "loosening": ["loosened(boards, spot)"],
+    "trees": [
+        "tree_of(some, row=None)", "grown_by(tree, piece)", "shrunk_by(tree, number)", "pieces_of(tree)",
+        "painted_by(tree, spot)",
+    ],
+    "treejudge": ["tree_judged(some, tree)"],
 }
 
 
