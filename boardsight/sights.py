@@ -18,13 +18,15 @@ def turned_towards(plane, spots):
     return plane
 
 
+# A plane through the spot and each edge, with the board above it.
+def side_faces(board, spot):
+    return [turned_towards(plane_through(spot, edge[0], edge[1]), board) for edge in edges_of(board)]
+
+
 # The spots strictly above all these planes are those strictly between the spot and one within
 # the board: the inside of the pyramid over the board with its tip at the spot.
 def pyramid_faces(board, spot):
-    faces = [turned_towards(plane_of(board), [spot])]
-    for edge in edges_of(board):
-        faces.append(turned_towards(plane_through(spot, edge[0], edge[1]), board))
-    return faces
+    return [turned_towards(plane_of(board), [spot])] + side_faces(board, spot)
 
 
 def does_hide(one, other, spot):

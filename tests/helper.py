@@ -4,7 +4,8 @@ from copy import deepcopy
 from fractions import Fraction
 
 from boardsight.boards import made_board
-from boardsight.errors import NoBoard, SightError
+from boardsight.errors import NoBoard, NoFrame, SightError
+from boardsight.frames import made_frame
 from boardsight.sights import does_hide, is_free
 from boardsight.spots import made_spot
 
@@ -124,3 +125,95 @@ def refusal_of(deed, *given):
 
 def refused_with(kind, deed, *given):
     return isinstance(refusal_of(deed, *given), kind)
+
+
+def cross_of(one, other):
+    return tuple(one[k - 2] * other[k - 1] - one[k - 1] * other[k - 2] for k in range(3))
+
+
+def dot_of(one, other):
+    return sum(mine * yours for mine, yours in zip(one, other))
+
+
+def spot_on_frame(frame, place):
+    u, v = number_of(place[0]), number_of(place[1])
+    return tuple(at + u * right + v * up for at, right, up in zip(numbers_of(frame[1]), frame[2], frame[3]))
+
+
+def ray_meets(frame, board, place):
+    """How many arrows from the eye to the place on the ray meets the board, or None; reckoned afresh."""
+    eye = numbers_of(frame[0])
+    arrow = tuple(at - start for at, start in zip(spot_on_frame(frame, place), eye))
+    corners = [numbers_of(corner) for corner in board]
+    sides = [tuple(b - a for a, b in zip(corners[k - 1], corners[k])) for k in range(len(corners))]
+    normal = cross_of(sides[1], sides[2])
+    if dot_of(normal, arrow) == 0:
+        return None
+    s = dot_of(normal, [a - b for a, b in zip(corners[0], eye)]) / dot_of(normal, arrow)
+    met = [start + s * part for start, part in zip(eye, arrow)]
+    for k, side in enumerate(sides):
+        if dot_of(normal, cross_of(side, [a - b for a, b in zip(met, corners[k - 1])])) < 0:
+            return None
+    return s if s > 0 else None
+
+
+def drawn_place(draw, reach=1, most=7):
+    places = []
+    for _ in range(2):
+        bottom = draw.randint(1, most)
+        places.append(Fraction(draw.randint((1 - reach) * bottom, reach * bottom), bottom))
+    return tuple((at.numerator, at.denominator) for at in places)
+
+
+def drawn_frame(draw, reach=4):
+    while True:
+        eye, corner = drawn_spot(draw, reach, 2), drawn_spot(draw, reach, 2)
+        across, up = [tuple(draw.randint(-reach, reach) for _ in range(3)) for _ in range(2)]
+        try:
+            return made_frame(eye, corner, across, up)
+        except NoFrame:
+            continue
+
+
+def drawn_polygon(draw, reach=2, most=4):
+    """The hull of some places, in its form."""
+    while True:
+        points = sorted({tuple(map(number_of, drawn_place(draw, reach, most))) for _ in range(draw.randint(3, 9))})
+        hull = []
+        for way in (points, points[::-1]):
+            chain = []
+            for point in way:
+                while len(chain) > 1 and turn_of(chain[-2], chain[-1], point) <= 0:
+                    chain.pop()
+                chain.append(point)
+            hull.extend(chain[:-1])
+        if len(hull) > 2:
+            return tuple(tuple((at.numerator, at.denominator) for at in point) for point in hull)
+
+
+def turn_of(one, other, third):
+    return (other[0] - one[0]) * (third[1] - one[1]) - (other[1] - one[1]) * (third[0] - one[0])
+
+
+def points_of(polygon):
+    return [tuple(map(number_of, place)) for place in polygon]
+
+
+def check_polygon(test, polygon):
+    """A tuple of places in lowest terms, convex, against the clock, the least one first."""
+    test.assertIs(type(polygon), tuple)
+    points = points_of(polygon)
+    test.assertEqual(polygon, tuple(tuple((at.numerator, at.denominator) for at in point) for point in points))
+    test.assertGreaterEqual(len(points), 3)
+    test.assertEqual(points[0], min(points))
+    for k, point in enumerate(points):
+        for other in points:
+            if other not in (points[k - 1], point):
+                test.assertGreater(turn_of(points[k - 1], point, other), 0)
+
+
+def where_in_polygon(polygon, place):
+    points = points_of(polygon)
+    at = tuple(map(number_of, place))
+    least = min(turn_of(points[k - 1], points[k], at) for k in range(len(points)))
+    return "within" if least > 0 else "rim" if least == 0 else "off"

@@ -28,6 +28,13 @@ INTERFACE = {
         "painted_by(tree, spot)",
     ],
     "treejudge": ["tree_judged(some, tree)"],
+    "leasts": ["least_tree(some)", "table_judged(some, table)"],
+    "polygons": ["area_of(polygon)", "halved_by(polygon, p, q, r)", "left_of(polygon, other)"],
+    "frames": [
+        "made_frame(eye, corner, across, up)", "place_spot(frame, place)", "image_of(frame, board)",
+        "nearness(frame, board)",
+    ],
+    "views": ["seen_at(frame, boards, place)", "row_at(frame, boards, v)"],
 }
 
 
