@@ -4,6 +4,7 @@ from copy import deepcopy
 from fractions import Fraction
 
 from boardsight.boards import made_board
+from boardsight.cuts import cut_by
 from boardsight.errors import NoBoard, NoFrame, SightError
 from boardsight.frames import made_frame
 from boardsight.sights import does_hide, is_free
@@ -84,9 +85,22 @@ CROSS = [
     made_board([(-2, -2, 12, 1), (-2, 2, 12, 1), (2, 2, 8, 1), (2, -2, 8, 1)]),
 ]
 
+FLOOR = sheet(-4, 4, -4, 4, 0)
+LEFT_FLOOR = sheet(-4, 0, -4, 4, 0)
+RIGHT_FLOOR = sheet(0, 4, -4, 4, 0)
+# It stands across the floor, so each of the two cuts the other one into halves.
+WALL = made_board([(0, -4, -4, 1), (0, 4, -4, 1), (0, 4, 4, 1), (0, -4, 4, 1)])
+LOW_WALL = made_board([(0, -4, -4, 1), (0, 4, -4, 1), (0, 4, 0, 1), (0, -4, 0, 1)])
+HIGH_WALL = made_board([(0, -4, 0, 1), (0, 4, 0, 1), (0, 4, 4, 1), (0, -4, 4, 1)])
+
 HIGH_UP = (3, 2, 200, 1)
 THREE_RING = wheel([(0, 0), (16, 0), (0, 16)])
 FOUR_RING = wheel([(-16, -16), (16, -16), (16, 16), (-16, 16)])
+
+
+def parts_of(pieces, plane, side):
+    parts = [(number, cut_by(board, plane)[side]) for number, board in pieces]
+    return [piece for piece in parts if piece[1] is not None]
 
 
 def hides_later(boards, row, spot):

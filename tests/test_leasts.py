@@ -2,24 +2,14 @@ import random
 import unittest
 
 from boardsight.boards import made_board, plane_of
-from boardsight.cuts import cut_by
 from boardsight.errors import TooMany
 from boardsight.leasts import least_tree, table_judged
 from boardsight.treejudge import tree_judged
 from boardsight.trees import pieces_of, tree_of
-from helper import FOUR_RING, MANY, THREE_RING, drawn_board, drawn_spot, refused_with, sheet, told_twice
-
-FLOOR = sheet(-4, 4, -4, 4, 0)
-LEFT_FLOOR = sheet(-4, 0, -4, 4, 0)
-RIGHT_FLOOR = sheet(0, 4, -4, 4, 0)
-WALL = made_board([(0, -4, -4, 1), (0, 4, -4, 1), (0, 4, 4, 1), (0, -4, 4, 1)])
-LOW_WALL = made_board([(0, -4, -4, 1), (0, 4, -4, 1), (0, 4, 0, 1), (0, -4, 0, 1)])
-HIGH_WALL = made_board([(0, -4, 0, 1), (0, 4, 0, 1), (0, 4, 4, 1), (0, -4, 4, 1)])
-
-
-def parts_of(pieces, plane, side):
-    parts = [(number, cut_by(board, plane)[side]) for number, board in pieces]
-    return [piece for piece in parts if piece[1] is not None]
+from helper import (
+    FLOOR, FOUR_RING, HIGH_WALL, LEFT_FLOOR, LOW_WALL, MANY, RIGHT_FLOOR, THREE_RING, WALL, drawn_board, drawn_spot,
+    parts_of, refused_with, sheet, told_twice,
+)
 
 
 def fewest_by_trying(pieces):

@@ -7,12 +7,10 @@ from boardsight.planes import made_plane, turned_about
 from boardsight.spots import made_spot, shared_spot
 from boardsight.treejudge import tree_judged
 from boardsight.trees import pieces_of, tree_of
-from helper import FOUR_RING, MANY, THREE_RING, drawn_board, sheet, told_twice
+from helper import (
+    FLOOR, FOUR_RING, LEFT_FLOOR, MANY, RIGHT_FLOOR, THREE_RING, WALL, drawn_board, parts_of, sheet, told_twice,
+)
 
-FLOOR = sheet(-4, 4, -4, 4, 0)
-LEFT_FLOOR = sheet(-4, 0, -4, 4, 0)
-RIGHT_FLOOR = sheet(0, 4, -4, 4, 0)
-WALL = made_board([(0, -4, -4, 1), (0, 4, -4, 1), (0, 4, 4, 1), (0, -4, 4, 1)])
 LEVEL = (0, 0, 1, 0)
 UPRIGHT = (1, 0, 0, 0)
 BOTH = [(0, FLOOR), (1, WALL)]
@@ -20,11 +18,6 @@ BOTH = [(0, FLOOR), (1, WALL)]
 
 def leaf(plane, *here):
     return (plane, here, None, None)
-
-
-def parts_of(pieces, plane, side):
-    parts = [(number, cut_by(board, plane)[side]) for number, board in pieces]
-    return [piece for piece in parts if piece[1] is not None]
 
 
 def drawn_tree(draw, pieces, depth):

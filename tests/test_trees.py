@@ -11,17 +11,10 @@ from boardsight.spots import made_spot
 from boardsight.treejudge import tree_judged
 from boardsight.trees import grown_by, painted_by, pieces_of, shrunk_by, tree_of
 from helper import (
-    FOUR_RING, HIGH_UP, MANY, THREE_RING, drawn_board, drawn_spot, flat_board, hides_later, refusal_of, sheet,
-    told_twice,
+    FLOOR, FOUR_RING, HIGH_UP, HIGH_WALL, LEFT_FLOOR, LOW_WALL, MANY, RIGHT_FLOOR, THREE_RING, WALL, drawn_board,
+    drawn_spot, flat_board, hides_later, parts_of, refusal_of, sheet, told_twice,
 )
 
-FLOOR = sheet(-4, 4, -4, 4, 0)
-LEFT_FLOOR = sheet(-4, 0, -4, 4, 0)
-RIGHT_FLOOR = sheet(0, 4, -4, 4, 0)
-# It stands across the floor, so each of the two cuts the other one into halves.
-WALL = made_board([(0, -4, -4, 1), (0, 4, -4, 1), (0, 4, 4, 1), (0, -4, 4, 1)])
-LOW_WALL = made_board([(0, -4, -4, 1), (0, 4, -4, 1), (0, 4, 0, 1), (0, -4, 0, 1)])
-HIGH_WALL = made_board([(0, -4, 0, 1), (0, 4, 0, 1), (0, 4, 4, 1), (0, -4, 4, 1)])
 LEVEL = (0, 0, 1, 0)
 UPRIGHT = (1, 0, 0, 0)
 
@@ -33,9 +26,8 @@ def tree_by_the_words(pieces):
     plane = plane_of(pieces[0][1])
     here = tuple(piece for piece in pieces if plane_of(piece[1]) == plane)
     away = [piece for piece in pieces if piece not in here]
-    halves = [[(number, cut_by(board, plane)[half]) for number, board in away] for half in (0, 1)]
-    below, above = [[piece for piece in half if piece[1] is not None] for half in halves]
-    return (plane, here, tree_by_the_words(below), tree_by_the_words(above))
+    below, above = [tree_by_the_words(parts_of(away, plane, side)) for side in (0, 1)]
+    return (plane, here, below, above)
 
 
 def drawn_some(draw, many):
@@ -175,8 +167,7 @@ class GrownTest(unittest.TestCase):
             tree = tree_of(some)
             if draw.random() < 0.5:
                 plane = made_plane(draw.randint(-3, 3), draw.randint(-3, 3), draw.choice([-1, 1]), draw.randint(-3, 3))
-                halves = [[(n, cut_by(b, plane)[side]) for n, b in some] for side in (0, 1)]
-                below, above = [tree_of([piece for piece in half if piece[1] is not None]) for half in halves]
+                below, above = [tree_of(parts_of(some, plane, side)) for side in (0, 1)]
                 stay = tuple((n, b) for n, b in some if cut_by(b, plane) == (None, None))
                 tree = (plane, stay, below, above)
             self.assertTrue(tree_judged(some, tree))
