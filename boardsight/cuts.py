@@ -40,6 +40,20 @@ def kept_by(board, planes):
     return part
 
 
+# Parts that make up what is left of a board without its part on or above all planes.
+def left_by(board, planes):
+    if kept_by(board, planes) is None:
+        return [board]
+    left = []
+    rest = board
+    for plane in planes:
+        parts = cut_by(rest, plane)
+        if parts[0] is not None:
+            left.append(parts[0])
+        rest = parts[1]
+    return left
+
+
 # A plane through each edge, with the board above it, that goes across the board's own plane.
 def edge_planes(board):
     axis = flat_axis(plane_of(board))
@@ -64,10 +78,19 @@ def lies_in(part, board):
     return "off" not in [where_in(board, corner) for corner in part]
 
 
+def is_beyond(part, planes):
+    for plane in planes:
+        if max([side_of(plane, corner) for corner in part]) <= 0:
+            return True
+    return False
+
+
+# Convex parts of one plane without area in common are parted along an edge of one of them.
 def do_overlap(parts):
+    rims = [edge_planes(part) for part in parts]
     for k, part in enumerate(parts):
-        for earlier in parts[:k]:
-            if common_part(part, earlier) is not None:
+        for earlier in range(k):
+            if not is_beyond(part, rims[earlier]) and not is_beyond(parts[earlier], rims[k]):
                 return True
     return False
 

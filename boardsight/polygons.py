@@ -4,7 +4,7 @@ They are reckoned as boards that lie flat: the place (u, v) at the spot (u, v, 0
 """
 
 from boardsight.boards import formed, side_of_edge, size_of
-from boardsight.cuts import cut_by, edge_planes, kept_by
+from boardsight.cuts import cut_by, edge_planes, left_by
 from boardsight.ratios import fraction
 from boardsight.spots import made_spot
 from boardsight.wholes import in_lowest_terms
@@ -52,14 +52,5 @@ def halved_by(polygon, p, q, r):
 
 
 def left_of(polygon, other):
-    rest = laid_flat(polygon)
-    planes = edge_planes(laid_flat(other))
-    if kept_by(rest, planes) is None:
-        return [polygon]
-    left = []
-    for plane in planes:
-        parts = cut_by(rest, plane)
-        if parts[0] is not None:
-            left.append(polygon_of(parts[0]))
-        rest = parts[1]
-    return left
+    left = left_by(laid_flat(polygon), edge_planes(laid_flat(other)))
+    return [polygon_of(part) for part in left]

@@ -39,3 +39,18 @@ def total_of(some):
     for one in some:
         total = plus(total, one)
     return total
+
+
+# Each fraction once.
+def rising(fractions):
+    sorted_ones = []
+    for one in fractions:
+        place = len([other for other in sorted_ones if under(other, one)])
+        if place == len(sorted_ones) or sorted_ones[place] != one:
+            sorted_ones.insert(place, one)
+    return sorted_ones
+
+
+# Between two fractions lies the one of both tops by both bottoms, with hardly more figures.
+def between(low, high):
+    return fraction(low[0] + high[0], low[1] + high[1])

@@ -5,9 +5,7 @@ from boardsight.planes import side_of
 from boardsight.spots import strictly_between
 
 
-def is_parting(plane, one, other, spot):
-    if side_of(plane, spot) > 0:
-        return False
+def is_between(plane, one, other):
     for corner in one:
         if side_of(plane, corner) < 0:
             return False
@@ -15,6 +13,10 @@ def is_parting(plane, one, other, spot):
         if side_of(plane, corner) > 0:
             return False
     return True
+
+
+def is_parting(plane, one, other, spot):
+    return side_of(plane, spot) <= 0 and is_between(plane, one, other)
 
 
 def is_sight(one, other, spot, near, far):

@@ -4,7 +4,7 @@ from boardsight.boards import refuse_unless_free
 from boardsight.frames import nearness, windows_of
 from boardsight.planes import side_of
 from boardsight.polygons import flat_spot
-from boardsight.ratios import fraction, minus, over, plus, times, under
+from boardsight.ratios import between, fraction, minus, over, plus, rising, times, under
 
 
 def nearness_at(near, place):
@@ -70,20 +70,6 @@ def crossings_of(stretches):
             if one[3] != other[3]:
                 crossings.append(over(minus(other[4], one[4]), minus(one[3], other[3])))
     return crossings
-
-
-def rising(fractions):
-    sorted_ones = []
-    for one in fractions:
-        place = len([other for other in sorted_ones if under(other, one)])
-        if place == len(sorted_ones) or sorted_ones[place] != one:
-            sorted_ones.insert(place, one)
-    return sorted_ones
-
-
-# Between two fractions lies the one of both tops by both bottoms, with hardly more figures.
-def between(low, high):
-    return fraction(low[0] + high[0], low[1] + high[1])
 
 
 def number_between(stretches, low, high):

@@ -8,7 +8,7 @@ from boardsight.cuts import cut_by
 from boardsight.errors import NoBoard, NoFrame, SightError
 from boardsight.frames import made_frame
 from boardsight.sights import does_hide, is_free
-from boardsight.spots import made_spot
+from boardsight.spots import made_spot, shared_spot
 
 # Two thousand figures each: the most that is handed in.
 MANY = 10 ** 2000 - 1
@@ -231,3 +231,223 @@ def where_in_polygon(polygon, place):
     at = tuple(map(number_of, place))
     least = min(turn_of(points[k - 1], points[k], at) for k in range(len(points)))
     return "within" if least > 0 else "rim" if least == 0 else "off"
+
+
+def as_fraction(number):
+    number = Fraction(number)
+    return (number.numerator, number.denominator)
+
+
+def as_place(u, v):
+    return (as_fraction(u), as_fraction(v))
+
+
+def as_polygon(*pairs):
+    return tuple(as_place(u, v) for u, v in pairs)
+
+
+def shifted(board, steps):
+    return made_board([made_spot(x + steps[0] * w, y + steps[1] * w, z + steps[2] * w, w) for x, y, z, w in board])
+
+
+def less_by(one, other):
+    return tuple(mine - yours for mine, yours in zip(one, other))
+
+
+def affine_by(told_at):
+    """The numbers p, q, r with which p * u + q * v + r is what is told at (u, v), affine."""
+    start = told_at((0, 0))
+    return (told_at((1, 0)) - start, told_at((0, 1)) - start, start)
+
+
+def arrow_to(frame, point):
+    return less_by(spot_on_frame(frame, as_place(*point)), numbers_of(frame[0]))
+
+
+def halves_of_board(frame, board):
+    """Affine (p, q, r), one for each edge: a place's ray meets the board where all are from 0 on; reckoned afresh."""
+    eye = numbers_of(frame[0])
+    arms = [less_by(numbers_of(corner), eye) for corner in board]
+    core = tuple(map(sum, zip(*arms)))
+    halves = []
+    for k, arm in enumerate(arms):
+        normal = cross_of(arms[k - 1], arm)
+        if dot_of(normal, core) < 0:
+            normal = tuple(-part for part in normal)
+        halves.append(affine_by(lambda point, normal=normal: dot_of(normal, arrow_to(frame, point))))
+    return halves
+
+
+def nearness_afresh(frame, board):
+    eye = numbers_of(frame[0])
+    corners = [numbers_of(corner) for corner in board[:3]]
+    normal = cross_of(less_by(corners[1], corners[0]), less_by(corners[2], corners[0]))
+    height = dot_of(normal, less_by(corners[0], eye))
+    return affine_by(lambda point: dot_of(normal, arrow_to(frame, point)) / height)
+
+
+def height_at(half, point):
+    return half[0] * point[0] + half[1] * point[1] + half[2]
+
+
+def clipped(points, half):
+    """The part of a convex ring of points where the affine half is from 0 on."""
+    part = []
+    for k, point in enumerate(points):
+        before = points[k - 1]
+        was, now = height_at(half, before), height_at(half, point)
+        if was * now < 0:
+            share = was / (was - now)
+            part.append(tuple(a + share * (b - a) for a, b in zip(before, point)))
+        if now >= 0:
+            part.append(point)
+    return part
+
+
+def all_clipped(points, halves):
+    for half in halves:
+        points = clipped(points, half)
+    return points
+
+
+def area_of_points(points):
+    return sum(turn_of(points[0], points[k], points[k + 1]) for k in range(1, len(points) - 1)) / Fraction(2)
+
+
+def rest_of_points(points, halves):
+    """Convex rings that make up what is left of one without where all halves are from 0 on."""
+    rest = []
+    for half in halves:
+        rest.append(clipped(points, tuple(-part for part in half)))
+        points = clipped(points, half)
+    return [ring for ring in rest if area_of_points(ring) > 0]
+
+
+def halves_of_ring(points):
+    halves = []
+    for k, (u, v) in enumerate(points):
+        p, q = points[k - 1][1] - v, u - points[k - 1][0]
+        halves.append((p, q, -p * u - q * v))
+    return halves
+
+
+def are_apart(rings):
+    edges = [halves_of_ring(ring) for ring in rings]
+    return all(area_of_points(all_clipped(ring, edges[j])) == 0 for k, ring in enumerate(rings) for j in range(k))
+
+
+def fill_the_frame(tiles):
+    """Whether the polygons lie in the frame, no two with area in common, and come to it all."""
+    rings = [points_of(polygon) for number, polygon in tiles]
+    if not all(0 <= at <= 1 for ring in rings for point in ring for at in point):
+        return False
+    return sum(map(area_of_points, rings)) == 1 and are_apart(rings)
+
+
+def is_picture(frame, boards, tiles):
+    """What point 21 asks of a picture, reckoned afresh."""
+    halves = [halves_of_board(frame, board) for board in boards]
+    nears = [nearness_afresh(frame, board) for board in boards]
+    for number, polygon in tiles:
+        ring = points_of(polygon)
+        if number is None:
+            if any(area_of_points(all_clipped(ring, mine)) > 0 for mine in halves):
+                return False
+        elif not 0 <= number < len(boards):
+            return False
+        elif not all(height_at(half, point) >= 0 for half in halves[number] for point in ring):
+            return False
+        else:
+            for other in range(len(boards)):
+                gain = less_by(nears[other], nears[number])
+                if other == number or (gain == (0, 0, 0) and other > number):
+                    continue
+                if area_of_points(all_clipped(ring, halves[other] + [gain])) > 0:
+                    return False
+    return fill_the_frame(tiles)
+
+
+def point_at(way, t):
+    """The numbers of the spot at the moment t, a Fraction; reckoned afresh, like all below."""
+    start, goal = map(numbers_of, way)
+    return tuple(a + t * (b - a) for a, b in zip(start, goal))
+
+
+def height_of(plane, point):
+    return dot_of(plane[:3], point) - plane[3]
+
+
+def least_turn(board, point):
+    """Above 0 within the board, 0 on its rim, below 0 elsewhere in its plane; None off its plane."""
+    corners = [numbers_of(corner) for corner in board]
+    normal = cross_of(less_by(corners[1], corners[0]), less_by(corners[2], corners[0]))
+    if dot_of(normal, less_by(point, corners[0])) != 0:
+        return None
+    return min(dot_of(normal, cross_of(less_by(corners[k], corners[k - 1]), less_by(point, corners[k - 1])))
+               for k in range(len(corners)))
+
+
+def is_strictly_between(near, point, far):
+    ahead, back = less_by(far, near), less_by(point, near)
+    return cross_of(ahead, back) == (0, 0, 0) and dot_of(ahead, back) < 0
+
+
+def is_right_sight(one, other, point, near, far):
+    near, far = numbers_of(near), numbers_of(far)
+    turns = (least_turn(one, near), least_turn(other, far))
+    return None not in turns and min(turns) > 0 and is_strictly_between(near, point, far)
+
+
+def parts_from(plane, one, other, point):
+    return (all(height_of(plane, numbers_of(corner)) >= 0 for corner in one)
+            and all(height_of(plane, numbers_of(corner)) <= 0 for corner in other)
+            and height_of(plane, point) <= 0)
+
+
+def part_at_some_moment(early, late, way):
+    """Whether at some moment one is above neither plane: at an end, or else where one crosses one of them."""
+    moments = {Fraction(0), Fraction(1)}
+    for plane in (early, late):
+        begin, end = [height_of(plane, numbers_of(spot)) for spot in way]
+        if begin * end < 0:
+            moments.add(begin / (begin - end))
+    return any(height_of(early, point_at(way, t)) <= 0 and height_of(late, point_at(way, t)) <= 0 for t in moments)
+
+
+def is_right_end(one, other, way, moment, paper, end):
+    plane, near, far = paper
+    point = point_at(way, moment)
+    if plane is None:
+        return moment == end and is_right_sight(one, other, point, near, far)
+    near, far = numbers_of(near), numbers_of(far)
+    turns = (least_turn(one, near), least_turn(other, far))
+    return (parts_from(plane, one, other, point_at(way, end)) and height_of(plane, point) == 0
+            and None not in turns and min(turns) >= 0
+            and (near == point or is_strictly_between(near, point, far)))
+
+
+def is_right_stretch(one, other, way, told):
+    """What point 24 asks of a paper."""
+    if told[0] == "never":
+        return (parts_from(told[1], one, other, numbers_of(way[0]))
+                and parts_from(told[2], one, other, numbers_of(way[1])) and part_at_some_moment(told[1], told[2], way))
+    low, high, moment = number_of(told[1]), number_of(told[2]), number_of(told[5][0])
+    if not 0 <= low < moment < high <= 1:
+        return False
+    point = point_at(way, moment)
+    return (is_right_end(one, other, way, low, told[3], 0) and is_right_end(one, other, way, high, told[4], 1)
+            and least_turn(one, point) is None and least_turn(other, point) is None
+            and is_right_sight(one, other, point, told[5][1], told[5][2]))
+
+
+def drawn_way(draw, boards, reach=9):
+    """Of two unlike spots, both free of the boards; often one that goes through a corner or along an edge."""
+    while True:
+        start = drawn_spot(draw, draw.choice([2, 4, reach]))
+        goal = drawn_spot(draw, draw.choice([2, 4, reach]))
+        if boards and draw.random() < 0.4:
+            board = draw.choice(boards)
+            through = draw.choice([board[0], board[-1], shared_spot(board[0], board[1], (1, 2))])
+            goal = shared_spot(start, through, as_fraction(Fraction(draw.randint(1, 6), draw.randint(1, 4))))
+        if start != goal and is_free(boards, start) and is_free(boards, goal):
+            return (start, goal)

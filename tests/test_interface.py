@@ -35,6 +35,12 @@ INTERFACE = {
         "nearness(frame, board)",
     ],
     "views": ["seen_at(frame, boards, place)", "row_at(frame, boards, v)"],
+    "pictures": [
+        "tiles_of(frame, boards)", "tiles_judged(frame, boards, tiles)", "shares_of(frame, boards)",
+        "painting_of(frame, pieces)",
+    ],
+    "ways": ["spot_at(way, t)", "stretch_of(one, other, way)"],
+    "wayjudge": ["stretch_judged(one, other, way, told)"],
 }
 
 

@@ -6,10 +6,10 @@ from boardsight.boards import made_board
 from boardsight.errors import NotFree
 from boardsight.frames import image_of, made_frame
 from boardsight.sights import is_free
-from boardsight.spots import made_spot
 from boardsight.views import row_at, seen_at
 from helper import (
-    CROSS, FOUR_RING, MANY, drawn_board, drawn_frame, drawn_place, number_of, ray_meets, refusal_of, sheet, told_twice,
+    CROSS, FOUR_RING, MANY, drawn_board, drawn_frame, drawn_place, number_of, ray_meets, refusal_of, sheet,
+    shifted, told_twice,
 )
 
 EYE = (0, 0, 0, 1)
@@ -25,10 +25,6 @@ def at(u, v):
 def seen_by_rays(frame, boards, place):
     met = [(ray_meets(frame, board, place), number) for number, board in enumerate(boards)]
     return min([one for one in met if one[0] is not None], default=(0, None))[1]
-
-
-def shifted(board, steps):
-    return made_board([made_spot(x + steps[0] * w, y + steps[1] * w, z + steps[2] * w, w) for x, y, z, w in board])
 
 
 class SeenTest(unittest.TestCase):
