@@ -2,7 +2,7 @@
 
 from boardsight.boards import plane_of, refuse_unless_free
 from boardsight.cuts import cut_by
-from boardsight.orders import hidden_by_each, least_row, pyramids_over, ring_left_over
+from boardsight.orders import hidden_by_each, pyramids_over, row_or_ring
 
 
 # The place of a piece of the ring and its two parts. There always is one: pieces none of which
@@ -22,10 +22,9 @@ def loosened(boards, spot):
     pieces = list(enumerate(boards))
     while True:
         bare = [board for number, board in pieces]
-        hidden = hidden_by_each(bare, pyramids_over(bare, spot))
-        row = least_row(hidden)
-        if len(row) == len(pieces):
-            return (pieces, row)
-        cut = cut_in_ring(bare, ring_left_over(hidden, row))
+        found = row_or_ring(hidden_by_each(bare, pyramids_over(bare, spot)))
+        if found[0] == "order":
+            return (pieces, found[1])
+        cut = cut_in_ring(bare, found[1])
         number = pieces[cut[0]][0]
         pieces = pieces[:cut[0]] + [(number, part) for part in cut[1]] + pieces[cut[0] + 1:]

@@ -54,6 +54,13 @@ def ring_left_over(hidden, row):
     return passed[passed.index(at):]
 
 
+def row_or_ring(hidden):
+    row = least_row(hidden)
+    if len(row) == len(hidden):
+        return ("order", row)
+    return ("ring", ring_left_over(hidden, row))
+
+
 def pairs_round(row):
     return [(row[k], row[(k + 1) % len(row)]) for k in range(len(row))]
 
@@ -68,14 +75,13 @@ def pairs_of_places(row):
 def order_from(boards, spot):
     refuse_unless_free(boards, spot)
     pyramids = pyramids_over(boards, spot)
-    hidden = hidden_by_each(boards, pyramids)
-    row = least_row(hidden)
-    if len(row) == len(boards):
+    found = row_or_ring(hidden_by_each(boards, pyramids))
+    row = found[1]
+    if found[0] == "order":
         planes = [parting_plane(boards[i], boards[j], spot, pyramids[j]) for i, j in pairs_of_places(row)]
         return ("order", row, planes)
-    ring = ring_left_over(hidden, row)
-    sights = [sight_through(kept_by(boards[i], pyramids[j]), boards[j], spot) for i, j in pairs_round(ring)]
-    return ("ring", ring, sights)
+    sights = [sight_through(kept_by(boards[i], pyramids[j]), boards[j], spot) for i, j in pairs_round(row)]
+    return ("ring", row, sights)
 
 
 def is_order(boards, spot, row, planes):

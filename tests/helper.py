@@ -3,8 +3,8 @@
 from copy import deepcopy
 from fractions import Fraction
 
-from boardsight.boards import made_board
-from boardsight.cuts import cut_by
+from boardsight.boards import made_board, plane_of
+from boardsight.cuts import common_part, cut_by
 from boardsight.errors import NoBoard, NoFrame, SightError
 from boardsight.frames import made_frame
 from boardsight.sights import does_hide, is_free
@@ -106,6 +106,11 @@ def parts_of(pieces, plane, side):
 def hides_later(boards, row, spot):
     """Whether in this row some board hides one that stands behind it."""
     return any(does_hide(boards[i], boards[j], spot) for k, i in enumerate(row) for j in row[k + 1:])
+
+
+def do_share_area(boards):
+    return any(plane_of(one) == plane_of(other) and common_part(one, other) is not None
+               for k, one in enumerate(boards) for other in boards[:k])
 
 
 def spoiled(value):

@@ -41,6 +41,17 @@ INTERFACE = {
     ],
     "ways": ["spot_at(way, t)", "stretch_of(one, other, way)"],
     "wayjudge": ["stretch_judged(one, other, way, told)"],
+    "walks": ["changes_of(boards, way)", "walk_of(boards, way)"],
+    "yards": ["is_name(text)", "Yard()"],
+    "texts": ["spot_text(spot)", "fraction_text(one)", "yard_text(yard)", "read_spot(text)", "read_yard(text)"],
+    "desk": ["Desk()"],
+}
+METHODS = {
+    ("yards", "Yard"): [
+        "put(self, name, corners)", "drop(self, name)", "back(self)", "settle(self)", "names(self)", "boards(self)",
+        "place_of(self, name)", "deeds(self)", "tree(self)",
+    ],
+    ("desk", "Desk"): ["say(self, row)"],
 }
 
 
@@ -52,6 +63,13 @@ class InterfaceTest(unittest.TestCase):
                 name = row.partition("(")[0]
                 self.assertEqual(name + str(inspect.signature(getattr(home, name))), row)
                 self.assertEqual(getattr(home, name).__module__, "boardsight." + module)
+
+    def test_methods(self):
+        for (module, name), wanted in METHODS.items():
+            home = getattr(importlib.import_module("boardsight." + module), name)
+            for row in wanted:
+                method = row.partition("(")[0]
+                self.assertEqual(method + str(inspect.signature(getattr(home, method))), row)
 
 
 if __name__ == "__main__":

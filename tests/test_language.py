@@ -37,6 +37,19 @@ WORDS = re.compile(
     r"|NamedTuple|TypedDict|TYPE_CHECKING|abstractmethod)\b|dataclass|overload|contextmanager"
 )
 WALKED = ("zip", "enumerate", "reversed", "range")
+DICT_WALKS = ("items", "keys", "values")
+KEYWORDS = {
+    "sorted": ("key", "reverse"), "min": ("key", "default"), "max": ("key", "default"), "sum": ("start",),
+    "enumerate": ("start",), "zip": ("strict",),
+}
+KEYS = set("len int str abs sum min max tuple".split())
+ERRORS = set(name for name in OWN_NAMES if name[0].isupper())
+CHECKED = set("int str bool list tuple dict".split())
+NO_VALUES = set(
+    "items keys values pop update append clear extend insert remove reverse setdefault sort args encode format".split()
+)
+VALUES = set("count index title find get join lower upper split strip copy add".split())
+PYTHONS = set(name for kind in (str, int, list, dict, set, bytes) for name in vars(kind))
 WALKERS = ("list", "tuple", "dict", "sorted", "sum", "any", "all", "enumerate", "zip", "min", "max")
 
 
@@ -171,6 +184,82 @@ def name_faults(node, known, imported, methods):
     return faults
 
 
+def is_call_of(node, names):
+    return isinstance(node, ast.Call) and isinstance(node.func, ast.Name) and node.func.id in names
+
+
+def call_faults(node, parents, methods):
+    faults = []
+    if isinstance(node, ast.Call) and node.keywords:
+        name = node.func.id if isinstance(node.func, ast.Name) else node.func.attr
+        own = name in OWN_NAMES if isinstance(node.func, ast.Name) else name in METHODS or name not in methods
+        if own and not all(keyword.arg in KEYWORDS.get(name, ()) for keyword in node.keywords):
+            faults.append("L22")
+    if is_call_of(node, ("isinstance",)):
+        asked = node.args[1].elts if isinstance(node.args[1], ast.Tuple) else [node.args[1]]
+        if not all(isinstance(kind, ast.Name) and (kind.id in CHECKED or kind.id[0].isupper()) for kind in asked):
+            faults.append("L22")
+    if isinstance(node, ast.Name) and node.id in OWN_NAMES and node.id not in ERRORS:
+        parent = parents[node]
+        called = isinstance(parent, ast.Call) and parent.func is node
+        key = isinstance(parent, ast.keyword) and parent.arg == "key" and node.id in KEYS
+        asked = is_call_of(parent, ("isinstance",)) or is_call_of(parents.get(parent), ("isinstance",))
+        if not called and not key and not asked:
+            faults.append("L22")
+    if isinstance(node, ast.Call) and isinstance(node.func, ast.Attribute) and node.func.attr in DICT_WALKS:
+        faults.extend(walk_faults(node, parents[node]))
+    return faults
+
+
+def set_faults(node, parents):
+    if not is_call_of(node, ("set", "frozenset")):
+        return []
+    parent = parents[node]
+    while isinstance(parent, ast.BinOp):
+        parent = parents[parent]
+    asks = (ast.In, ast.NotIn, ast.Eq, ast.NotEq)
+    if isinstance(parent, ast.Compare) and all(isinstance(op, asks) for op in parent.ops):
+        return []
+    if is_call_of(parent, ("sorted", "len")) and not parent.keywords:
+        return []
+    return ["L24"]
+
+
+def class_faults(node, parents, classes):
+    if not isinstance(node, ast.Name) or node.id not in classes:
+        return []
+    parent = parents[node]
+    if isinstance(parent, ast.Tuple):
+        parent = parents[parent]
+    if isinstance(parent, ast.Call) and (parent.func is node or is_call_of(parent, ("isinstance",))):
+        return []
+    return [] if isinstance(parent, (ast.ClassDef, ast.ExceptHandler)) else ["L18"]
+
+
+def value_faults(node, parents, methods):
+    faults = []
+    if isinstance(node, ast.Attribute) and isinstance(node.ctx, ast.Store):
+        if node.attr in methods:
+            faults.append("L18")
+        if node.attr in NO_VALUES or (node.attr in PYTHONS and node.attr not in VALUES):
+            faults.append("L26")
+    if isinstance(node, ast.FunctionDef) and isinstance(parents[node], ast.ClassDef) and node.name not in SPECIAL:
+        if node.name in PYTHONS and node.name not in METHODS and node.name not in ("add", "discard"):
+            faults.append("L26")
+    if isinstance(node, ast.FunctionDef) and node.name == "__init__":
+        if any(isinstance(inner, ast.Return) for inner in ast.walk(node)):
+            faults.append("L28")
+    return faults
+
+
+def handler_faults(node):
+    if not isinstance(node, ast.ExceptHandler):
+        return []
+    taken = node.type.elts if isinstance(node.type, ast.Tuple) else [node.type]
+    names = [kind.id for kind in taken if isinstance(kind, ast.Name)]
+    return ["L19"] if not names or set(names) & {"Exception", "TypeError"} else []
+
+
 def top_faults(tree):
     faults = []
     names = []
@@ -186,17 +275,34 @@ def top_faults(tree):
     return faults
 
 
-def faults_of(text):
+def classes_in(text):
+    return [node for node in ast.walk(ast.parse(text)) if isinstance(node, ast.ClassDef)]
+
+
+def class_names(texts):
+    return [one.name for text in texts for one in classes_in(text)]
+
+
+def method_names(texts):
+    return [node.name for text in texts for one in classes_in(text) for node in one.body
+            if isinstance(node, ast.FunctionDef)]
+
+
+def faults_of(text, others=()):
+    """The faults of one file's text; with the others' classes and methods known."""
     tree = ast.parse(text)
     parents = parents_of(tree)
     nodes = list(ast.walk(tree))
+    methods = method_names([text] + list(others))
+    classes = class_names([text] + list(others))
     imported = [a.name for n in nodes if isinstance(n, ast.ImportFrom) for a in n.names]
     known = set(imported + [name for n in nodes for name in bound_names(n)])
-    methods = [n.name for n in nodes if isinstance(n, ast.FunctionDef) and isinstance(parents[n], ast.ClassDef)]
     faults = text_faults(text) + top_faults(tree)
     for node in nodes:
         found = statement_faults(node, tree) + expression_faults(node, parents) + def_faults(node)
-        found += name_faults(node, known, imported, methods)
+        found += name_faults(node, known, imported, methods) + call_faults(node, parents, methods)
+        found += set_faults(node, parents) + class_faults(node, parents, classes) + handler_faults(node)
+        found += value_faults(node, parents, methods)
         faults += [(rule, getattr(node, "lineno", 0)) for rule in found]
     return faults
 
@@ -211,8 +317,9 @@ class LanguageTest(unittest.TestCase):
             self.assertRegex(name, r"^(__init__|[a-z][a-z0-9_]*)\.py$")
 
     def test_no_file_has_a_fault(self):
-        for name, text in sources().items():
-            self.assertEqual(faults_of(text), [], name)
+        files = sources()
+        for name, text in files.items():
+            self.assertEqual(faults_of(text, files.values()), [], name)
 
     def test_names_come_from_the_file_that_defines_them(self):
         files = sources()
@@ -242,9 +349,32 @@ class LanguageTest(unittest.TestCase):
             "L17": "# a type\n", "L19": "def f(e):\n    raise e\n", "L20": "def f(x, y):\n    return x is y\n",
             "L21": "def f(x: int):\n    return x\n", "L23": "def f():\n    xs = range(3)\n    return xs\n",
             "L25": "def f(xs):\n    xs.sort()\n", "L27": "def f(n):\n    return 2 ** n\n",
+            "L18": "class A:\n    pass\n\n\ndef f():\n    return A\n", "L22": "def f():\n    return len\n",
+            "L24": "def f(xs):\n    return set(xs)\n", "L26": "class A:\n    def f(self):\n        self.items = 1\n",
+            "L28": "class A:\n    def __init__(self):\n        return None\n",
         }
-        for rule, text in wrong.items():
-            self.assertIn(rule, [found for found, row in faults_of(text)])
+        more = [
+            ("L18", "class A:\n    def b(self):\n        pass\n\n\nclass C:\n    def d(self):\n        self.b = 1\n"),
+            ("L19", "def f(x):\n    try:\n        return x()\n    except TypeError:\n        return 1\n"),
+            ("L19", "def f(x):\n    try:\n        return x()\n    except (KeyError, Exception):\n        return 1\n"),
+            ("L22", "def f(xs):\n    return list(xs, key=1)\n"),
+            ("L22", "def f(xs):\n    return isinstance(xs, set)\n"),
+            ("L22", "def f(xs):\n    return sorted(xs, key=repr)\n"),
+            ("L23", "def f(d):\n    xs = d.items()\n    return xs\n"),
+            ("L24", "def f(xs):\n    return [x for x in set(xs)]\n"),
+            ("L26", "class A:\n    def isdecimal(self):\n        return 1\n"),
+        ]
+        for rule, text in list(wrong.items()) + more:
+            self.assertIn(rule, [found for found, row in faults_of(text)], text)
+
+    def test_what_is_allowed_has_no_fault(self):
+        for text in (
+            "def f(xs):\n    return sorted(set(xs)), len(set(xs) | set([1]))\n",
+            "def f(xs):\n    return max(xs, key=len, default=0)\n",
+            "class A:\n    def f(self):\n        self.b = 1\n\n\ndef g(x):\n    return isinstance(x, (int, A))\n",
+            "def f(d):\n    return [k for k, v in d.items() if v in set(d)]\n",
+        ):
+            self.assertEqual(faults_of(text), [], text)
 
 
 if __name__ == "__main__":

@@ -2,8 +2,7 @@ import random
 import unittest
 from fractions import Fraction
 
-from boardsight.boards import made_board, plane_of
-from boardsight.cuts import common_part
+from boardsight.boards import made_board
 from boardsight.errors import NotFree
 from boardsight.frames import image_of, made_frame
 from boardsight.loosening import loosened
@@ -15,8 +14,8 @@ from boardsight.trees import painted_by, tree_of
 from boardsight.views import seen_at
 from helper import (
     CROSS, FLOOR, FOUR_RING, HIGH_UP, MANY, THREE_RING, WALL, all_clipped, area_of_points, as_polygon, check_polygon,
-    drawn_board, drawn_frame, fill_the_frame, halves_of_board, hides_later, is_picture, number_of, points_of,
-    refusal_of, rest_of_points, sheet, shifted, told_twice,
+    do_share_area, drawn_board, drawn_frame, fill_the_frame, halves_of_board, hides_later, is_picture, number_of,
+    points_of, refusal_of, rest_of_points, sheet, shifted, told_twice,
 )
 
 EYE = (0, 0, 0, 1)
@@ -345,11 +344,6 @@ class PaintingTest(unittest.TestCase):
             self.painting(frame, list(enumerate(boards)))
         for draw, frame, boards in drawn_pictures(93, 60):
             self.painting(frame, [(draw.randint(0, 2), board) for board in boards])
-
-
-def do_share_area(boards):
-    return any(plane_of(one) == plane_of(other) and common_part(one, other) is not None
-               for k, one in enumerate(boards) for other in boards[:k])
 
 
 class PaintedPictureTest(unittest.TestCase):
