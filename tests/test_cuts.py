@@ -224,6 +224,15 @@ class FillTest(unittest.TestCase):
             self.assertIs(does_fill(board, parts[1:]), False)
             self.assertIs(does_fill(board, parts + parts[:1]), False)
 
+    def test_a_corner_against_an_edge(self):
+        """The triangle's tip touches the upper half, and no line along the triangle's own edges parts them."""
+        upper, tip = flat_board([(0, 2), (4, 2), (4, 4), (0, 4)]), flat_board([(0, 0), (4, 0), (2, 2)])
+        sides = [flat_board([(0, 0), (2, 2), (0, 2)]), flat_board([(4, 0), (4, 2), (2, 2)])]
+        self.assertIs(does_fill(SQUARE, [upper, tip] + sides), True)
+        self.assertIs(does_fill(SQUARE, sides + [tip, upper]), True)
+        higher = flat_board([(0, 0), (4, 0), (2, 3)])
+        self.assertIs(does_fill(SQUARE, [upper, higher] + sides), False)
+
     def test_missing_or_told_twice(self):
         self.assertIs(does_fill(SQUARE, []), False)
         self.assertIs(does_fill(SQUARE, [LEFT]), False)

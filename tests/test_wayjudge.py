@@ -4,6 +4,7 @@ from fractions import Fraction
 
 from boardsight.errors import NotFree
 from boardsight.planes import turned_about
+from boardsight.sightjudge import sight_judged
 from boardsight.sights import is_free, sight_of
 from boardsight.spots import made_spot
 from boardsight.wayjudge import stretch_judged
@@ -129,6 +130,15 @@ class JudgeTest(unittest.TestCase):
             self.refuse_all(5, [(moment, made_spot(spot[0], 0, 4 * spot[3], 2 * spot[3]), far)])
         self.refuse_all(5, [((9, 20),) + SIGHT[1:], ((1, 2), SIGHT[2], SIGHT[1]), ((1, 2), (0, 0, 3, 1), SIGHT[2])])
         self.assertTrue(self.judged(replaced(RIGHT, 5, ((9, 20), made_spot(-1, 0, 4, 2), (0, 0, 4, 1)))))
+
+    def test_sight_at_the_very_start_or_goal_or_beyond(self):
+        """A right line of sight, but from a moment that isn't strictly between low and high."""
+        for told, way, moments in ((RIGHT_OUT, OUT, [(0, 1), (-1, 10)]), (RIGHT_IN, BACK_IN, [(1, 1), (11, 10)])):
+            for moment in moments:
+                x = spot_at(way, moment)
+                sight = (moment, made_spot(x[0], 0, 4 * x[3], 2 * x[3]), (0, 0, 4, 1))
+                self.assertEqual(sight_judged(PANE, BACK, x, ("hides",) + sight[1:]), True)
+                self.refuse_all(5, [sight], told, way=way)
 
     def test_sight_from_a_spot_that_is_not_free(self):
         """At half the way the spot lies in the other one's plane, where the line is still a line of sight."""

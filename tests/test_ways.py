@@ -214,6 +214,15 @@ class StretchTest(unittest.TestCase):
         self.assertEqual(told[0], "stretch")
         self.assertEqual(self.stretch(far, near, way)[0], "never")
 
+    def test_not_free_where_it_never_hides(self):
+        far, on_pane, on_back = (5, 5, 9, 1), (5, 5, 2, 1), (5, 5, 4, 1)
+        for way, number in (((on_pane, far), 0), ((far, on_pane), 0), ((on_back, far), 1), ((far, on_back), 1),
+                            ((on_back, on_pane), 1), ((on_pane, on_back), 0)):
+            for one, other, wanted in ((PANE, BACK, number), (BACK, PANE, 1 - number)):
+                refusal = refusal_of(stretch_of, one, other, way)
+                self.assertIsInstance(refusal, NotFree)
+                self.assertEqual(refusal.board, wanted)
+
     def test_not_free(self):
         level, upright = FLOOR, WALL
         free, on_level, on_upright, on_both = (5, 0, 5, 1), (5, 0, 0, 1), (0, 0, 5, 1), (0, 9, 0, 1)
