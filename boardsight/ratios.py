@@ -51,6 +51,13 @@ def rising(fractions):
     return sorted_ones
 
 
-# Between two fractions lies the one of both tops by both bottoms, with hardly more figures.
+# One with few figures where the gap is wide enough; else that of both tops by both bottoms, which
+# has hardly more figures than they.
 def between(low, high):
+    bottom = 2
+    while bottom < low[1] + high[1]:
+        top = low[0] * bottom // low[1] + 1
+        if top * high[1] < high[0] * bottom:
+            return fraction(top, bottom)
+        bottom = bottom * bottom
     return fraction(low[0] + high[0], low[1] + high[1])

@@ -3,7 +3,7 @@ import unittest
 from fractions import Fraction
 
 from boardsight.errors import NoNumber
-from boardsight.ratios import fraction, minus, over, plus, times, total_of, under
+from boardsight.ratios import between, fraction, minus, over, plus, rising, times, total_of, under
 from helper import MANY, MANY_TOO, number_of, refused_with
 
 
@@ -118,6 +118,42 @@ class TotalTest(unittest.TestCase):
         some = [(1, 2), (1, 3)]
         self.assertEqual(total_of(some), total_of(some))
         self.assertEqual(some, [(1, 2), (1, 3)])
+
+
+class RisingTest(unittest.TestCase):
+    def test_each_once(self):
+        self.assertEqual(rising([]), [])
+        self.assertEqual(rising([(1, 2), (-1, 3), (1, 2), (0, 1), (2, 3), (0, 1)]), [(-1, 3), (0, 1), (1, 2), (2, 3)])
+
+    def test_drawn_ones(self):
+        for seed in range(20):
+            some = drawn_fractions(seed, 2 * seed, 6)
+            self.assertEqual(list(map(number_of, rising(some))), sorted(set(map(number_of, some))))
+
+
+class BetweenTest(unittest.TestCase):
+    def check(self, low, high):
+        told = between(low, high)
+        self.assertEqual(told, told_of(number_of(told)))
+        self.assertLess(number_of(low), number_of(told))
+        self.assertLess(number_of(told), number_of(high))
+        return told
+
+    def test_drawn_ones(self):
+        for seed in range(40):
+            some = rising(drawn_fractions(seed, 9, 10 ** (seed + 1)))
+            for low, high in zip(some, some[1:]):
+                self.check(low, high)
+
+    def test_neighbours(self):
+        self.check((0, 1), (1, 1))
+        self.check((0, 1), (1, MANY))
+        self.check((MANY - 1, MANY), (1, 1))
+        self.check((-1, MANY), (0, 1))
+        self.check((MANY - 1, MANY), (MANY, MANY + 1))
+
+    def test_few_figures_in_a_wide_gap(self):
+        self.assertLess(self.check((MANY_TOO, MANY), (MANY_TOO + MANY // 3, MANY))[1], 100)
 
 
 if __name__ == "__main__":
