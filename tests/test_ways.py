@@ -150,6 +150,15 @@ class StretchTest(unittest.TestCase):
         self.assertEqual(self.bounds(one, other, (0, 0, 0), (0, 5, 0)), (0, Fraction(3, 5), False, False))
         self.assertEqual(self.bounds(one, other, (0, -5, 0), (0, 5, 0)), (Fraction(1, 2), Fraction(4, 5), False, False))
 
+    def test_along_the_plane_of_a_board_past_its_edge(self):
+        """The way crosses the wall's plane beside the wall; there the only line goes along it to a far corner."""
+        for x in (1, -1, 2, -2):
+            wall = shifted(WALL, (x, 0, 0))
+            for step in (1, -1):
+                far = made_board([(x, 0, 9, 1), (x - step, 1, 9, 1), (x - step, -1, 9, 1)])
+                told = self.bounds(wall, far, (x - step, 3, -9), (x + step, 3, -9))
+                self.assertEqual(told, (Fraction(1, 2), 1, False, True))
+
     def test_boards_that_share_an_edge_or_a_corner(self):
         for one, other in (
             (LEFT_FLOOR, LOW_WALL), (LOW_WALL, LEFT_FLOOR), (LEFT_FLOOR, HIGH_WALL), (HIGH_WALL, RIGHT_FLOOR),
